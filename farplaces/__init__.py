@@ -1,0 +1,1 @@
+"""Farplaces: the farthest two places of a tree."""

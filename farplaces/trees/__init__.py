@@ -1,0 +1,1 @@
+"""Trees: their texts and the ways in them."""
