@@ -1,7 +1,9 @@
 """Trees for the tests, and slow plain ways of working things out again."""
 
+import functools
 import itertools
 import re
+from fractions import Fraction
 
 LETTERS = "abcdefghijklmnopqrstuvwxyz"
 
@@ -48,14 +50,51 @@ def mixed_tree(many, seed):
     return places[turn:] + places[:turn], tuple(ties)
 
 
-def all_trees(many):
-    """All trees of so many places, each tie of a length of its own."""
+def all_trees(many, lengths=(1, 2, 4, 8, 16)):
+    """All trees of so many places, the ties' lengths as they are handed in."""
     places = tuple("dbacfe"[:many])
     for chosen in itertools.combinations(itertools.combinations(places, 2), many - 1):
         if whole(places, chosen):
-            ties = [(a, b, 2 ** k) if k % 2 else (b, a, 2 ** k)
+            ties = [(a, b, lengths[k]) if k % 2 else (b, a, lengths[k])
                     for k, (a, b) in enumerate(chosen)]
             yield places, tuple(ties)
+
+
+def few_trees(many, lengths):
+    """All trees of so many places with ties of these lengths in any mixture."""
+    for mixture in itertools.product(lengths, repeat=many - 1):
+        yield from all_trees(many, mixture)
+
+
+def two_arms(places, one, other, lengths):
+    """Two rows of so many places each from the first place on, lengths in turn."""
+    ties = []
+    for k in range(1, one + other + 1):
+        back = 0 if k == one + 1 else k - 1
+        pair = (places[k], places[back]) if k % 3 else (places[back], places[k])
+        ties.append((*pair, lengths[k % len(lengths)]))
+    return places[:one + other + 1], tuple(ties[::-1])
+
+
+def with_lengths(tree, lengths):
+    """The same tree with other lengths, in turn."""
+    places, ties = tree
+    return places, tuple([(one, other, lengths[k % len(lengths)])
+                          for k, (one, other, _) in enumerate(ties)])
+
+
+def alike_trees():
+    """Trees in which many pairs of places are equally far apart."""
+    for many in (2, 3, 4):
+        yield from few_trees(many, (1, 2))
+    yield from all_trees(5, (1, 1, 1, 1))
+    yield from all_trees(5, (3, 10 ** 6, 10 ** 6, 3))
+    for many in (7, 30, 60):
+        for lengths in ((1,), (2, 1), (10 ** 6,), (1, 10 ** 6)):
+            yield with_lengths(star_tree(many), lengths)
+            yield with_lengths(row_tree(many), lengths)
+            yield with_lengths(mixed_tree(many, 5), lengths)
+            yield two_arms(names(many)[::-1], many // 2, (many - 1) // 2, lengths)
 
 
 def some_trees():
@@ -98,6 +137,54 @@ def slow_way(tree, one, other):
                 if here == way[-1] and there not in way:
                     ways.append((way + (there,), length + more))
     raise AssertionError("no way")
+
+
+@functools.lru_cache(maxsize=None)
+def slow_lengths(tree):
+    """The lengths of all ways, both ways about: a dict from pairs of places."""
+    places, ties = tree
+    if len(places) <= 6:
+        return {(one, other): slow_way(tree, one, other)[1]
+                for one in places for other in places}
+    told = {}
+    for one in places:
+        told[one, one] = 0
+        ahead = [one]
+        for here in ahead:
+            for first, second, length in ties:
+                for near, far in ((first, second), (second, first)):
+                    if near == here and (one, far) not in told:
+                        told[one, far] = told[one, here] + length
+                        ahead.append(far)
+    return told
+
+
+@functools.lru_cache(maxsize=None)
+def slow_pairs(tree):
+    """All pairs of two places in their order, as triples (length, one, other)."""
+    lengths = slow_lengths(tree)
+    return [(lengths[pair], *pair) for pair in itertools.combinations(tree[0], 2)]
+
+
+def slow_point(tree, point):
+    """How far all places are from the point, or None where none is told so."""
+    places, ties = tree
+    one, other, (above, below) = point
+    if one not in places or other not in places or below < 1:
+        return None
+    part = Fraction(above, below)
+    if (part.numerator, part.denominator) != (above, below):
+        return None
+    lengths = slow_lengths(tree)
+    if one == other:
+        return None if part else [Fraction(lengths[one, place]) for place in places]
+    tied = [tie for tie in ties if {one, other} == set(tie[:2])]
+    if not tied or places.index(one) > places.index(other) or not 0 < part < tied[0][2]:
+        return None
+    # The places that are still come to from one without the tie lie on its side.
+    near = reached([tie for tie in ties if tie != tied[0]], one)
+    return [lengths[one, place] + part if place in near
+            else lengths[other, place] + tied[0][2] - part for place in places]
 
 
 def slow_wrong_row(text):

@@ -1,0 +1,1 @@
+"""Trees joined by a new tie."""
