@@ -202,3 +202,51 @@ def slow_wrong_row(text):
             return number
         ties.append((found[1], found[2]))
     return None if whole(places, ties) else len(rows)
+
+
+class Plain:
+    """What a kept tree does, told again over lists; a refusal is told as a tuple."""
+
+    def __init__(self, tree):
+        self.places = list(tree[0])
+        self.ties = [list(tie) for tie in tree[1]]
+
+    def tree(self):
+        return tuple(self.places), tuple([tuple(tie) for tie in self.ties])
+
+    def missing(self, *told):
+        for name in told:
+            if name not in self.places:
+                return ("NoPlace", name)
+        return None
+
+    def put_leaf(self, name, place, length):
+        refused = self.missing(place)
+        if refused:
+            return refused
+        if name in self.places or length < 1:
+            return ("NoJoin",)
+        self.places.append(name)
+        self.ties.append([place, name, length])
+        return None
+
+    def take_leaf(self, name):
+        refused = self.missing(name)
+        if refused:
+            return refused
+        its = [tie for tie in self.ties if name in tie[:2]]
+        if len(its) != 1 or len(self.places) == 1:
+            return ("NoJoin",)
+        self.places.remove(name)
+        self.ties.remove(its[0])
+        return None
+
+    def lengthen(self, one, other, length):
+        refused = self.missing(one, other)
+        if refused:
+            return refused
+        for tie in self.ties:
+            if one != other and {one, other} == set(tie[:2]) and length >= 1:
+                tie[2] = length
+                return None
+        return ("NoJoin",)

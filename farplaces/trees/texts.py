@@ -35,7 +35,7 @@ def tree_shown(tree):
 def _read_places(row):
     names = row.split(" ")
     for name in names:
-        if not _is_name(name) or names.count(name) > 1:
+        if not is_name(name) or names.count(name) > 1:
             raise NoTree(0)
     return tuple(names)
 
@@ -47,7 +47,7 @@ def _read_tie(row, number, parts):
     one, other, length = words
     if one not in parts or other not in parts:
         raise NoTree(number)
-    if not _is_length(length) or parts[one] == parts[other]:
+    if not is_length(length) or parts[one] == parts[other]:
         raise NoTree(number)
     return one, other, int(length)
 
@@ -61,13 +61,15 @@ def _hang_together(parts, one, other):
             parts[place] = kept
 
 
-def _is_name(word):
+def is_name(word):
+    """Tell whether the word is one to eight small letters."""
     if not 1 <= len(word) <= LONGEST_NAME:
         return False
     return all([sign in LETTERS for sign in word])
 
 
-def _is_length(word):
+def is_length(word):
+    """Tell whether the word is a number from 1 on, in figures without a nought ahead."""
     # Asked sign by sign: int takes signs ahead, blanks and underscores, too.
     if word == "" or word.startswith("0"):
         return False
